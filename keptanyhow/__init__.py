@@ -1,0 +1,1 @@
+"""Keptanyhow: files that need no journal and no order of writes."""
