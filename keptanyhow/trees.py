@@ -59,6 +59,22 @@ def check_tree_and_way(tree, way):
     check_way(way)
 
 
+def tree_of_spots(spots, texts):
+    """The tree of what stands at ways: a number for each file, None for a folder; texts are the files' contents."""
+    lines = []
+    least = {}
+    for way in sorted(spots):
+        number = spots[way]
+        if number is None:
+            lines.append((way, "folder"))
+        elif number in least:
+            lines.append((way, "same", least[number]))
+        else:
+            lines.append((way, "file", texts[number]))
+            least[number] = way
+    return tuple(lines)
+
+
 def line_at(tree, way):
     """The line of a way, None if the tree has none."""
     for line in tree:

@@ -59,6 +59,21 @@ def own_name(way):
     return way.rpartition("/")[2]
 
 
+def is_below(one, other):
+    """Whether a way that is known to be one lies below another one, which is not "/"."""
+    return one.startswith(other + "/")
+
+
+def ways_above(way):
+    """The list of the ways above a way that is known to be one, from the top on, without "/"."""
+    found = []
+    at = way.find("/", 1)
+    while at != -1:
+        found.append(way[:at])
+        at = way.find("/", at + 1)
+    return found
+
+
 def names_in(way):
     """The tuple of the names of a way, () for "/"."""
     check_way(way)
@@ -92,4 +107,4 @@ def lies_below(one, other):
     check_way(other)
     if other == ROOT:
         return one != ROOT
-    return one.startswith(other + "/")
+    return is_below(one, other)

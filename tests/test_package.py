@@ -25,6 +25,26 @@ INTERFACE = {
         "ways_of_file": ["tree", "way"],
         "size_of_tree": ["tree"],
     },
+    "deeds": {
+        "is_deed": ["value"],
+        "let_by": ["tree", "deed"],
+        "done": ["tree", "deed"],
+        "done_all": ["tree", "deeds"],
+        "changes": ["tree", "deed"],
+    },
+    "octets": {
+        "number_bytes": ["number", "count"],
+        "text_bytes": ["contents"],
+        "with_check": ["some"],
+        "bytes_number": ["some"],
+        "bytes_text": ["some"],
+        "check": ["some"],
+        "without_check": ["some"],
+    },
+    "pages": {
+        "written_page": ["told"],
+        "told_page": ["page"],
+    },
 }
 
 BUILTINS = """len range enumerate zip min max sum abs sorted reversed int str bool list tuple dict set isinstance ord repr

@@ -1,0 +1,29 @@
+"""Integers within limits, and the limits that several files share."""
+
+# What 3 bytes can hold: the greatest stamp and the greatest period.
+MOST_STAMP = 16777215
+# One more than all stamps of all things together can ever be, with room to spare.
+MOST_SUM = 4294967296
+MOST_THINGS = 24
+MOST_FREE_PAGES = 200
+MOST_IMAGE = 250
+
+
+def is_number(value, least, most):
+    """Whether a value is an integer from least to most; True and False are none."""
+    return isinstance(value, int) and not isinstance(value, bool) and least <= value <= most
+
+
+def is_stamp(value):
+    """Whether a value can be a stamp, or a period."""
+    return is_number(value, 0, MOST_STAMP)
+
+
+def is_thing(value):
+    """Whether a value can be the number of a thing of some image."""
+    return is_number(value, 0, MOST_THINGS - 1)
+
+
+def is_page_number(value):
+    """Whether a value can be the number of a page of some image."""
+    return is_number(value, 0, MOST_IMAGE - 1)
