@@ -18,7 +18,11 @@ def is_bytes(value, most):
     """Whether a value is bytes, at most so many of them."""
     if not isinstance(value, tuple) or len(value) > most:
         return False
-    return all([is_number(item, 0, 255) for item in value])
+    for item in value:
+        # Written out instead of a call of is_number, as each page of an image comes by here.
+        if not isinstance(item, int) or isinstance(item, bool) or not 0 <= item <= 255:
+            return False
+    return True
 
 
 def check_bytes(some, most):

@@ -45,10 +45,46 @@ PAGES = r'''
 raises BadTold
 '''
 
+CARDS = r'''
+>>> from keptanyhow.cards import bytes_card, card_bytes, card_pages, is_card, tails_needed
+>>> card = (1, 1, "folder", ((0, "a"),), 0, (), ((2, 5),))
+>>> [card_bytes(card), bytes_card(1, 1, (1, 1, 0, 1, 97, 0, 0, 0)), tails_needed(card), len(card_pages(1, card, ())), is_card(card[:6])]
+[(1, 1, 0, 1, 97, 0, 0, 1, 2, 0, 0, 5), (1, 1, 'folder', ((0, 'a'),), 0, (), ()), 0, 1, False]
+'''
+
+IMAGES = r'''
+>>> from keptanyhow.images import count_keepings, kept, keeping_by, new_image, put_all, times_written, written_numbers
+>>> writes = ((4, (0,) * 64), (4, (0,) * 64), (5, (0,) * 64))
+>>> [len(new_image((2, 3))), written_numbers(writes), times_written(writes), count_keepings(writes), keeping_by(writes, (5, 2)), kept(new_image((2, 3)), writes, (-1, 0))[4]]
+[9, (4, 5), (2, 1), 12, (0, 1), None]
+>>> put_all(new_image((1, 0)), ((4, (0,) * 64),))
+raises BadWrites(index=0)
+'''
+
+SCANS = r'''
+>>> from keptanyhow.images import new_image
+>>> from keptanyhow.scans import cards_up, faults, head_of, settling, size_of, tree_up
+>>> [head_of(new_image((2, 3))), size_of(new_image((2, 3))), cards_up(new_image((2, 3))), tree_up(new_image((2, 3))), faults(new_image((2, 3))[:8]), settling(new_image((1, 0)))[0]]
+[(0, 0, 0), (2, 3), ((0, 0, 'folder', (), 0, (), ()), (0, 0, 'none', (), 0, (), ())), (), (('head',),), ()]
+'''
+
+DRIVES = r'''
+>>> from keptanyhow.images import new_image
+>>> from keptanyhow.drives import Drive
+>>> drive = Drive(new_image((3, 4)))
+>>> [drive.do(("file", "/f", "hi")), drive.tree, drive.stamp, drive.period, drive.room, drive.cards[1], drive.unsynced("/f")]
+[None, (('/f', 'file', 'hi'),), 1, 2, (1, 3), (1, 2, 'file', ((0, 'f'),), 2, ((8, 1),), ()), True]
+>>> [drive.cut((0, 1)), drive.tree, drive.do(("folder", "/a")), drive.sync(), drive.do(("drop", "/a")), drive.cut((-1,)), drive.tree, drive.deeds]
+[None, (), None, None, None, None, (('/a', 'folder'),), ()]
+>>> drive.do(("drop", "/f"))
+raises NotThere
+'''
+
 
 class Examples(unittest.TestCase):
     def test_each_line_is_taken(self):
-        self.assertEqual([3, 4, 4, 2, 3], [len(parts_of(text)) for text in (WAYS, TREES, DEEDS, OCTETS, PAGES)])
+        texts = (WAYS, TREES, DEEDS, OCTETS, PAGES, CARDS, IMAGES, SCANS, DRIVES)
+        self.assertEqual([3, 4, 4, 2, 3, 3, 4, 3, 6], [len(parts_of(text)) for text in texts])
 
     def test_ways(self):
         run_examples(self, WAYS)
@@ -64,6 +100,18 @@ class Examples(unittest.TestCase):
 
     def test_pages(self):
         run_examples(self, PAGES)
+
+    def test_cards(self):
+        run_examples(self, CARDS)
+
+    def test_images(self):
+        run_examples(self, IMAGES)
+
+    def test_scans(self):
+        run_examples(self, SCANS)
+
+    def test_drives(self):
+        run_examples(self, DRIVES)
 
 
 if __name__ == "__main__":
