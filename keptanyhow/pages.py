@@ -139,6 +139,9 @@ def guessed(page):
 
 def told_by(page):
     """The tuple that tells a value that is known to be a page."""
+    # Most pages of most images are blank: this saves the work of all that is below.
+    if page == BLANK:
+        return ("blank",)
     if page is None or page != octets_with_check(page[:TOLD_BYTES]):
         return BAD
     told = guessed(page)

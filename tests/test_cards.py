@@ -46,7 +46,7 @@ BAD = [
     but(FOLDER, 3, (("a", 0),)), but(FILE, 3, ((0, "b"), (0, "a"))), but(FILE, 3, ((1, "a"), (0, "b"))),
     but(FILE, 3, ((0, "a"), (0, "a"))), but(FILE, 3, ((0, "a"), (2, "a"), (1, "a"))),
     but(NONE, 4, 1), but(FOLDER, 4, 1), but(FILE, 4, 50), but(FILE, 4, 101), but(FILE, 4, 2001), but(FILE, 4, -1),
-    but(FILE, 4, True), but(NONE, 4, False), but(NONE, 4, None), but(but(FILE, 4, 2001), 5, ((5, 5),) * 41),
+    but(NONE, 4, -1), but(FOLDER, 4, -1), but(but(FILE, 4, -1), 5, ()), but(FILE, 4, True), but(NONE, 4, False), but(NONE, 4, None), but(but(FILE, 4, 2001), 5, ((5, 5),) * 41),
     but(NONE, 5, ((0, 0),)), but(FOLDER, 5, ((0, 0),)), but(FILE, 5, ()), but(FILE, 5, ((9, 1),)),
     but(FILE, 5, ((9, 1), (10, 2), (11, 3))), but(FILE, 5, ((9, 1), (250, 2))), but(FILE, 5, ((9, 1), (-1, 2))),
     but(FILE, 5, ((9, 1), (10, TOP + 1))), but(FILE, 5, ((9, 1), (10, -1))), but(FILE, 5, ((9, 1), (10,))),
@@ -197,12 +197,12 @@ class Pages(unittest.TestCase):
     def test_with_many_tails(self):
         some = card_bytes(LARGEST)
         tails = (249, 0, 248, 1, 9, 5)
-        pages = card_pages(3, LARGEST, tails)
+        pages = card_pages(3, but(LARGEST, 0, 77), tails)
         self.assertEqual(7, len(pages))
-        self.assertEqual(("card", 3, TOP, TOP, 337, tails, some[:43]), told_page(pages[0]))
+        self.assertEqual(("card", 3, 77, TOP, 337, tails, some[:43]), told_page(pages[0]))
         for index in range(6):
             piece = some[43 + 54 * index:][:54]
-            told = ("tail", 3, TOP, index, piece + (0,) * (54 - len(piece)))
+            told = ("tail", 3, 77, index, piece + (0,) * (54 - len(piece)))
             self.assertEqual(told, told_page(pages[index + 1]))
 
     def test_wrong_tails(self):

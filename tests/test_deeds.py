@@ -95,6 +95,10 @@ class Forms(unittest.TestCase):
         self.check_bad(("bundle", ("folder", "/a")))
         self.check_bad(("bundle", {("folder", "/a"): True}))
 
+    def test_other_words_ahead_of_deeds(self):
+        for word in ("folder", "sync", "Bundle", "bundles", "", None, 0, ("bundle",), ["bundle"]):
+            self.check_bad((word, (("folder", "/a"),)))
+
     def test_no_bundle_in_a_bundle(self):
         self.check_bad(bundle(bundle(("folder", "/a"))))
         self.check_bad(bundle(("folder", "/a"), bundle(("folder", "/b"))))

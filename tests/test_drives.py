@@ -504,6 +504,16 @@ class Syncing(unittest.TestCase):
             self.assertEqual(put(before[0], turn % 2, head), drive.image)
             self.assertEqual(before[1:4] + (turn + 3,) + before[5:], told(drive)[1:])
 
+    def test_a_head_on_either_page(self):
+        for image, number in [(base(), 0), (put_head(base(), 1, 6, 6, 8, 0), 1)]:
+            drive = Drive(image)
+            self.assertEqual(1 - number, head_of(drive.image)[0])
+            before = drive.image
+            drive.sync()
+            self.assertEqual(put_head(before, number, 7 + number, 6, 8, 0), drive.image)
+            drive.sync()
+            self.assertEqual(1 - number, head_of(drive.image)[0])
+
     def test_sums_tell_the_stamps(self):
         drive = begun((6, 9), ("folder", "/a"), ("folder", "/b"))
         drive.sync()

@@ -450,8 +450,8 @@ class Faults(unittest.TestCase):
                           3: file(1, 1, ((0, "y"),), 101, ((14, 1), (15, 1), (14, 1)))})
         self.check(shared, ("part", 2), ("part", 3), ("shared", 14), ("shared", 15), ("shared", 16))
 
-    def test_shared_alone(self):
-        # The same page as a part of two things is never told as data of both: only one that is told so can be alone.
+    def test_a_shared_page_is_told_as_one_thing_only(self):
+        # So there is no such fault by itself: the other one that has the page lacks a part.
         image = self.up({1: file(1, 1, ((0, "f"),), 50, ((14, 1),)), 2: file(1, 1, ((0, "g"),), 50, ((14, 1),))})
         image = put_told(image, 14, "data", 1, 1, 0, "a" * 50)
         self.check(image, ("part", 2), ("shared", 14))
