@@ -433,6 +433,8 @@ class Faults(unittest.TestCase):
                    ("ring", 1), ("ring", 2))
         self.check(self.up({1: folder(1, 1, (4, "a"))}), ("place", 1), ("ring", 1))
         self.check(self.up({1: folder(1, 1, (6, "a"))}), ("place", 1), ("ring", 1))
+        self.check(self.up({1: file(1, 1, ((0, "f"),)), 2: folder(1, 1, (1, "a")), 3: folder(1, 1, (2, "b"))}),
+                   ("place", 2), ("ring", 2), ("ring", 3))
         deepest = {thing: folder(1, 1, (thing - 1, "a")) for thing in range(1, 24)}
         self.check(self.up(deepest, things=24, pages=0))
         deepest[1] = folder(1, 1, (23, "b"))
