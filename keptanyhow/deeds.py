@@ -77,6 +77,15 @@ def simple_deeds(deed):
     return (deed,)
 
 
+def deed_for(line):
+    """The deed that makes what a line of a tree tells, where what stands before it is made."""
+    if line[1] == "folder":
+        return ("folder", line[0])
+    if line[1] == "file":
+        return ("file", line[0], line[2])
+    return ("link", line[2], line[0])
+
+
 def overwritten(text, place, contents):
     """A text into which contents are put from a place on."""
     return text[:place] + contents + text[place + len(contents):]

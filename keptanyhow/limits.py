@@ -27,3 +27,10 @@ def is_thing(value):
 def is_page_number(value):
     """Whether a value can be the number of a page of some image."""
     return is_number(value, 0, MOST_IMAGE - 1)
+
+
+def are_ascending(value, most):
+    """Whether a value is an ascending tuple of unlike integers from 0 to most."""
+    if not isinstance(value, tuple) or not all([is_number(item, 0, most) for item in value]):
+        return False
+    return all([one < other for one, other in zip(value, value[1:])])

@@ -83,12 +83,18 @@ def line_at(tree, way):
     return None
 
 
-def file_line(tree, way):
-    """The line at the least way of the file that stands at a way."""
+def line_of_file(tree, way):
+    """The line at the least way of the file that stands at a way, None if no file stands there."""
     line = line_at(tree, way)
     if line is not None and line[1] == "same":
         line = line_at(tree, line[2])
-    if line is None or line[1] != "file":
+    return line if line is not None and line[1] == "file" else None
+
+
+def file_line(tree, way):
+    """The line at the least way of the file that stands at a way; NotFile is raised if there is none."""
+    line = line_of_file(tree, way)
+    if line is None:
         raise NotFile("no file stands there")
     return line
 

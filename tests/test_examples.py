@@ -1,5 +1,8 @@
 """The examples of the interface, as they stand in DOC.md."""
 
+import builtins
+import doctest
+import os
 import unittest
 
 from tests.examples import parts_of, run_examples
@@ -80,11 +83,37 @@ DRIVES = r'''
 raises NotThere
 '''
 
+NEEDS = r'''
+>>> from keptanyhow.needs import count_pasts, end, greatest_without, least_with, lost_with, needs, past_for, pasts, trees
+>>> deeds = (("file", "/a", "x"), ("file", "/b", "y"), ("move", "/a", "/b"))
+>>> [end((), deeds), needs((), deeds), pasts((), deeds), count_pasts((), deeds), lost_with((), deeds, 0), least_with((), deeds, (2,)), greatest_without((), deeds, (0,)), past_for((), deeds, (("/b", "file", "y"),)), len(trees((), deeds))]
+[(('/b', 'file', 'x'),), ((), (), (0, 1)), [(), (0,), (0, 1), (0, 1, 2), (1,)], 5, (0, 2), (0, 1, 2), (1,), (1,), 5]
+>>> pasts((), (("drop", "/a"),))
+raises BadDeeds(index=0)
+'''
+
+CUTS = r'''
+>>> from keptanyhow.cuts import image_of, joined, keeping_for, past_by
+>>> deeds = (("file", "/a", "x"), ("file", "/b", "y"))
+>>> [keeping_for((3, 4), (), deeds, (1,)), past_by((3, 4), (), deeds, (0, 1, 0, 1)), past_by((3, 4), (), deeds, (1, 1, -1, 1)), joined(image_of((1, 0), ()), (None,) * 4) == image_of((1, 0), ())]
+[(0, 1, 0, 1), (1,), (1,), True]
+>>> image_of((1, 0), (("/a", "folder"),))
+raises NoRoom(what='things')
+'''
+
+PROMISES = r'''
+>>> from keptanyhow.promises import apart_promises, fewest_syncs, first_break, holds, kept_promises, parted_by, surely
+>>> deeds = (("file", "/a", "x"), ("file", "/b", "y"))
+>>> wish = ("either", ("not", ("there", "/b")), ("there", "/a"))
+>>> [holds((), wish), surely((), deeds, wish), first_break((), deeds, wish), kept_promises((), deeds, ((0, 1),)), fewest_syncs((), deeds, ((0, 1),)), apart_promises((), deeds, ((0, 1),)), parted_by(deeds, (0,)), surely((), (("bundle", deeds),), wish)]
+[True, False, (1,), (False,), (0,), (0,), ((('file', '/a', 'x'),), (('file', '/b', 'y'),)), True]
+'''
+
 
 class Examples(unittest.TestCase):
     def test_each_line_is_taken(self):
-        texts = (WAYS, TREES, DEEDS, OCTETS, PAGES, CARDS, IMAGES, SCANS, DRIVES)
-        self.assertEqual([3, 4, 4, 2, 3, 3, 4, 3, 6], [len(parts_of(text)) for text in texts])
+        texts = (WAYS, TREES, DEEDS, OCTETS, PAGES, CARDS, IMAGES, SCANS, DRIVES, NEEDS, CUTS, PROMISES)
+        self.assertEqual([3, 4, 4, 2, 3, 3, 4, 3, 6, 4, 4, 4], [len(parts_of(text)) for text in texts])
 
     def test_ways(self):
         run_examples(self, WAYS)
@@ -112,6 +141,27 @@ class Examples(unittest.TestCase):
 
     def test_drives(self):
         run_examples(self, DRIVES)
+
+    def test_needs(self):
+        run_examples(self, NEEDS)
+
+    def test_cuts(self):
+        run_examples(self, CUTS)
+
+    def test_promises(self):
+        run_examples(self, PROMISES)
+
+    def test_the_ones_of_the_readme(self):
+        path = os.path.join(os.path.dirname(os.path.dirname(os.path.abspath(__file__))), "README.md")
+        with open(path, encoding="utf-8") as file:
+            text = file.read().replace("```", "")
+        told = []
+        # Examples that are run so leave their last value there.
+        self.addCleanup(vars(builtins).pop, "_", None)
+        test = doctest.DocTestParser().get_doctest(text, {}, "README", path, 0)
+        found = doctest.DocTestRunner().run(test, out=told.append)
+        self.assertEqual((0, []), (found.failed, told))
+        self.assertGreater(found.attempted, 20)
 
 
 if __name__ == "__main__":

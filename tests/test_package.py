@@ -76,6 +76,37 @@ INTERFACE = {
         "settling": ["image"],
         "settled": ["image"],
     },
+    "needs": {
+        "end": ["tree", "deeds"],
+        "tree_of": ["tree", "deeds", "past"],
+        "leans": ["tree", "deeds"],
+        "needs": ["tree", "deeds"],
+        "lost_with": ["tree", "deeds", "place"],
+        "least_with": ["tree", "deeds", "places"],
+        "greatest_without": ["tree", "deeds", "places"],
+        "is_past": ["tree", "deeds", "value"],
+        "pasts": ["tree", "deeds"],
+        "trees": ["tree", "deeds"],
+        "count_pasts": ["tree", "deeds"],
+        "past_for": ["tree", "deeds", "other"],
+    },
+    "cuts": {
+        "image_of": ["size", "tree"],
+        "copied_to": ["image", "size"],
+        "joined": ["one", "other"],
+        "drive_of": ["size", "tree", "deeds"],
+        "keeping_for": ["size", "tree", "deeds", "past"],
+        "past_by": ["size", "tree", "deeds", "keeping"],
+    },
+    "promises": {
+        "holds": ["tree", "wish"],
+        "surely": ["tree", "deeds", "wish"],
+        "first_break": ["tree", "deeds", "wish"],
+        "kept_promises": ["tree", "deeds", "promises"],
+        "fewest_syncs": ["tree", "deeds", "promises"],
+        "apart_promises": ["tree", "deeds", "promises"],
+        "parted_by": ["deeds", "gaps"],
+    },
 }
 
 # The classes, with the parameters of each method, and their properties.
@@ -92,7 +123,8 @@ STATEMENTS = (
     ast.ClassDef, ast.ImportFrom,
 )
 # Methods of builtin values that are called in the package: all are among those that may be.
-METHODS = """append extend find get index items join pop rpartition split startswith strip values add""".split()
+METHODS = """append bit_length endswith extend find get index items join partition pop remove rpartition setdefault split
+startswith strip values add""".split()
 BARRED = """register mro elements open input law version_info with_traceback add_note attrgetter breakpoint builtins compile
 copyright credits delattr dir eval exec exit gc getattr globals hasattr help id importlib license locals methodcaller os quit
 setattr super type vars sys""".split()
@@ -172,6 +204,13 @@ class Rules(unittest.TestCase):
             self.assertIn(alias.name, found)
             self.assertIs(None, alias.asname)
 
+    def test_imports_are_used(self):
+        for name, text in sources():
+            tree = ast.parse(text)
+            used = [node.id for node in ast.walk(tree) if isinstance(node, ast.Name)]
+            for node in [node for node in tree.body if isinstance(node, ast.ImportFrom)]:
+                self.assertEqual([], [alias.name for alias in node.names if alias.name not in used], name)
+
     def test_builtins_are_few(self):
         known = dir(importlib.import_module("builtins"))
         for name, text in sources():
@@ -228,7 +267,7 @@ class Rules(unittest.TestCase):
                 (stored if isinstance(node.ctx, ast.Store) else read).add(node.attr)
         self.assertEqual([], sorted(stored & set(properties + called)))
         self.assertEqual([], sorted(calls - set(called) - set(METHODS)))
-        self.assertEqual([], sorted(read - stored - set(called) - set(METHODS)))
+        self.assertEqual([], sorted(read - stored - set(called) - set(properties) - set(METHODS)))
         builtin = [word for kind in (str, int, list, dict, set, tuple, bytes) for word in dir(kind)]
         self.assertEqual([], sorted((stored - {"index"}) & set(builtin)))
 
