@@ -88,17 +88,21 @@ class Drive:
 
     def sync(self):
         """Make all writes lasting, and then a head."""
-        check_period(self._period)
-        things, pages = self._size
-        number = 1 - self._head
-        page = page_by(("head", self._period, things, pages, sum([card[0] for card in self._cards])))
-        self._image = image_behind(self._image, self._writes + ((number, page),))
-        self._head = number
+        write = self.head_write()
+        self._image = image_behind(self._image, self._writes + (write,))
+        self._head = write[0]
         self._sides = tuple([
             1 - side if card[1] == self._period else side for side, card in zip(self._sides, self._cards)
         ])
         self._period = self._period + 1
         self._rest()
+
+    def head_write(self):
+        """The write of the head by which a sync ends."""
+        check_period(self._period)
+        things, pages = self._size
+        page = page_by(("head", self._period, things, pages, sum([card[0] for card in self._cards])))
+        return (1 - self._head, page)
 
     def cut(self, keeping):
         """End the power, and begin again with what is kept of the writes."""
@@ -115,6 +119,18 @@ class Drive:
         for name in names_in(way):
             thing = places[(thing, name)]
         return self._cards[thing][1] == self._period
+
+    def state(self):
+        """All that the drive knows, to go back to."""
+        return (
+            self._image, self._tree, self._head, self._size, self._period, self._stamp, self._cards, self._tails,
+            self._sides, self._texts, self._deeds, self._writes, self._gone, self._free, self._room,
+        )
+
+    def back_to(self, state):
+        """Be again as the drive was when it told a state."""
+        self._image, self._tree, self._head, self._size, self._period, self._stamp, self._cards, self._tails = state[:8]
+        self._sides, self._texts, self._deeds, self._writes, self._gone, self._free, self._room = state[8:]
 
     def _start(self, image):
         """Begin with an image whose pages are known to be such."""

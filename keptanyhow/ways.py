@@ -59,6 +59,11 @@ def own_name(way):
     return way.rpartition("/")[2]
 
 
+def way_below(way, name):
+    """The way of a name in the folder at a way."""
+    return ROOT + name if way == ROOT else way + "/" + name
+
+
 def is_below(one, other):
     """Whether a way that is known to be one lies below another one, which is not "/"."""
     return one.startswith(other + "/")

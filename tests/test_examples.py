@@ -109,11 +109,46 @@ PROMISES = r'''
 [True, False, (1,), (False,), (0,), (0,), ((('file', '/a', 'x'),), (('file', '/b', 'y'),)), True]
 '''
 
+TABLES = r'''
+>>> from keptanyhow.tables import alike, asked_ways, exchanged, marks, parting, plain_row, settled_ways, table
+>>> deeds = (("file", "/a", "x"), ("file", "/b", "y"))
+>>> [asked_ways((), (("file", "/a", "x"), ("move", "/a", "/b"))), settled_ways((), deeds, (1,)), table((), deeds[:1]), alike((), deeds, (), deeds[::-1]), parting((), deeds, (), (("bundle", deeds),)), plain_row((), deeds[::-1]) == deeds]
+[('/', '/a', '/b'), ('/', '/b'), (((), (('/',),)), ((('/a', 'file', 'x'),), (('/', '/a'),))), True, ((('/a', 'file', 'x'),), ('/', '/a')), True]
+>>> [marks((("/a", "file", "x"),), ("/", "/a", "/b")), exchanged((), deeds, 0) == deeds[::-1]]
+[(('file', '/marka', ''), ('link', '/a', '/markb'), ('bundle', (('folder', '/b'), ('file', '/b/markc', '')))), True]
+'''
+
+LIVES = r'''
+>>> from keptanyhow.lives import counted, deeds_between, live, story
+>>> events = (("file", "/a", "x"), ("sync",), ("file", "/b", "y"), ("cut", (0,), 1))
+>>> [counted((3, 9), events), story((3, 9), events)[3:], live((3, 9), events).period, deeds_between((("/a", "file", "x"),), (("/a", "folder"),))]
+[(('file', '/a', 'x'),), [(('/a', 'file', 'x'), ('/b', 'file', 'y')), (('/a', 'file', 'x'),)], 4, (('drop', '/a'), ('folder', '/a'))]
+'''
+
+TEXTS = r'''
+>>> from keptanyhow.texts import read_deed, read_image, read_tree, write_deed, write_tree
+>>> [write_tree((("/a", "folder"), ("/a/f", "file", "hi"), ("/g", "same", "/a/f"))), read_tree("/f = "), write_deed(("write", "/f", 3, "x y")), read_deed("one ; drop /a"), read_deed("cut /f 2"), read_image(".\n-\n.\n.")[1]]
+['/a/\n/a/f = hi\n/g > /a/f', (('/f', 'file', ''),), 'write /f 3 = x y', ('bundle', (('drop', '/a'),)), ('cut', '/f', 2), None]
+>>> read_deed("drop")
+raises InvalidText(line=1)
+'''
+
+DESKS = r'''
+>>> from keptanyhow.desks import Desk
+>>> desk = Desk((3, 6))
+>>> [desk.run("file /f = hi"), desk.run("trees"), desk.run("sync"), desk.run("write /f 0 = HO"), desk.run("lost /f"), desk.run("read /f"), desk.run("cut 0"), desk.run("read /f"), desk.run("room")]
+[None, '2', None, None, '0', 'HO', None, 'hi', '1 5']
+>>> [desk.undo(), desk.tree, desk.lines, desk.redo(), desk.tree]
+[None, (('/f', 'file', 'HO'),), ('file /f = hi', 'sync', 'write /f 0 = HO'), None, (('/f', 'file', 'hi'),)]
+>>> desk.run("drop")
+raises InvalidText(line=1)
+'''
+
 
 class Examples(unittest.TestCase):
     def test_each_line_is_taken(self):
-        texts = (WAYS, TREES, DEEDS, OCTETS, PAGES, CARDS, IMAGES, SCANS, DRIVES, NEEDS, CUTS, PROMISES)
-        self.assertEqual([3, 4, 4, 2, 3, 3, 4, 3, 6, 4, 4, 4], [len(parts_of(text)) for text in texts])
+        texts = (WAYS, TREES, DEEDS, OCTETS, PAGES, CARDS, IMAGES, SCANS, DRIVES, NEEDS, CUTS, PROMISES, TABLES, LIVES, TEXTS, DESKS)
+        self.assertEqual([3, 4, 4, 2, 3, 3, 4, 3, 6, 4, 4, 4, 4, 3, 3, 5], [len(parts_of(text)) for text in texts])
 
     def test_ways(self):
         run_examples(self, WAYS)
@@ -150,6 +185,18 @@ class Examples(unittest.TestCase):
 
     def test_promises(self):
         run_examples(self, PROMISES)
+
+    def test_tables(self):
+        run_examples(self, TABLES)
+
+    def test_lives(self):
+        run_examples(self, LIVES)
+
+    def test_texts(self):
+        run_examples(self, TEXTS)
+
+    def test_desks(self):
+        run_examples(self, DESKS)
 
     def test_the_ones_of_the_readme(self):
         path = os.path.join(os.path.dirname(os.path.dirname(os.path.abspath(__file__))), "README.md")

@@ -107,6 +107,30 @@ INTERFACE = {
         "apart_promises": ["tree", "deeds", "promises"],
         "parted_by": ["deeds", "gaps"],
     },
+    "tables": {
+        "asked_ways": ["tree", "deeds"],
+        "settled_ways": ["tree", "deeds", "past"],
+        "table": ["tree", "deeds"],
+        "marks": ["tree", "ways"],
+        "exchanged": ["tree", "deeds", "place"],
+        "plain_row": ["tree", "deeds"],
+        "alike": ["one_tree", "one_deeds", "tree", "deeds"],
+        "parting": ["one_tree", "one_deeds", "tree", "deeds"],
+    },
+    "lives": {
+        "live": ["size", "events"],
+        "counted": ["size", "events"],
+        "deeds_between": ["one", "other"],
+        "story": ["size", "events"],
+    },
+    "texts": {
+        "write_tree": ["tree"],
+        "write_deed": ["deed"],
+        "write_image": ["image"],
+        "read_tree": ["text"],
+        "read_deed": ["text"],
+        "read_image": ["text"],
+    },
 }
 
 # The classes, with the parameters of each method, and their properties.
@@ -115,6 +139,10 @@ CLASSES = {
         {"__init__": ["self", "image"], "do": ["self", "deed"], "sync": ["self"], "cut": ["self", "keeping"],
          "unsynced": ["self", "way"]},
         ["image", "tree", "deeds", "writes", "period", "stamp", "cards", "room"],
+    ),
+    ("desks", "Desk"): (
+        {"__init__": ["self", "size"], "run": ["self", "line"], "undo": ["self"], "redo": ["self"]},
+        ["tree", "image", "lines"],
     ),
 }
 
