@@ -47,8 +47,10 @@ def table_bits(row, ways):
     leaning = [row.bits_at(way) for way in ways]
     found = {}
     for past, tree in trees_by_past(row).items():
-        found.setdefault(tree, {})[bits_settled(leaning, bits_of(past))] = True
-    return {tree: greatest_among(list(found[tree])) for tree in sorted(found)}
+        if tree not in found:
+            found[tree] = {}
+        found[tree][bits_settled(leaning, bits_of(past))] = True
+    return {behind: greatest_among(list(found[behind])) for behind in sorted(found)}
 
 
 def partings(one, other, ways):
