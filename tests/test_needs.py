@@ -132,6 +132,11 @@ class Leaning(unittest.TestCase):
         self.check(SYNCED, (("move", "/g", "/h"), ("move", "/a/f", "/g"), ("drop", "/g"), ("file", "/g", "")),
                    (), (0,), (1,), (1, 2))
 
+    def test_what_left_in_the_same_bundle(self):
+        # What left the place ahead of the file that the bundle drops is not what left it last.
+        self.check(SYNCED, (("move", "/g", "/h"), ("move", "/a/f", "/g"), ("bundle", (("drop", "/g"), ("file", "/g", "")))),
+                   (), (0,), (1,))
+
     def test_what_was_replaced(self):
         self.check(SYNCED, (("move", "/a/f", "/g"), ("file", "/a/f", ""), ("drop", "/g"), ("folder", "/g")),
                    (), (0,), (0,), (0, 2))
